@@ -1,0 +1,1 @@
+"""Roomward: a house that makes its own wardens."""
