@@ -94,13 +94,18 @@ class Machine:
         self.require_room(room)
         return room in self.end_marks
 
+    def goes(self, room, deed):
+        """The room where it stands behind a deed, None where it can't be done."""
+        if deed in self.known_marks:
+            return self.leads[room].get(deed)
+        return room
+
     def behind(self, row):
         """The room to which it goes along a row from its begin, None where a deed can't be done."""
         self.deeds_made_of.require(row)
         room = self.first_room
         for deed in row:
-            if deed in self.known_marks:
-                room = self.leads[room].get(deed)
+            room = self.goes(room, deed)
             if room is None:
                 return None
         return room

@@ -1,8 +1,11 @@
 """What the tests share."""
 
+import itertools
+import random
 import unittest
 
 from roomward.errors import WardError
+from roomward.machines import Machine
 
 
 class RefusalCase(unittest.TestCase):
@@ -16,6 +19,21 @@ class RefusalCase(unittest.TestCase):
         self.assertIsInstance(caught.exception, WardError)
         return caught.exception
 
+    def same_machine(self, machine, begin, ends, doors, knows):
+        """Ask that a machine is just the told one: all that its methods tell."""
+        rooms = sorted({begin, *ends, *(d[0] for d in doors), *(d[2] for d in doors)})
+        told = {(room, deed): far for room, deed, far in doors}
+        self.assertIsInstance(machine, Machine)
+        self.assertEqual(machine.begin(), begin)
+        self.assertEqual(machine.rooms(), rooms)
+        self.assertEqual(machine.ends(), sorted(ends))
+        self.assertEqual(machine.knows(), sorted(knows))
+        for room in rooms:
+            self.assertEqual(machine.at(room), sorted(deed for near, deed in told if near == room), room)
+            self.assertIs(machine.is_end(room), room in ends, room)
+            for deed in machine.deeds().names():
+                self.assertEqual(machine.to(room, deed), told.get((room, deed)), (room, deed))
+
 
 # Things of other kinds, some of which can't be a dict's key.
 ODD_THINGS = (None, 0, 1, 7, -3, True, False, [], ["a"], (), ("a",), {}, {"a": 1}, 1.5, b"a", object(), str, 10 ** 5000)
@@ -24,3 +42,32 @@ ODD_THINGS = (None, 0, 1, 7, -3, True, False, [], ["a"], (), ("a",), {}, {"a": 1
 ODD_TEXTS = ("", " ", "1", "1a", "9abc", "A", "aB", "Ab", "ABC", "a b", " a", "a ", "a_b", "_a", "a-b", "a.b", "a\n",
              "\na", "a\t", "a~", "`", "{", "@", "[", "/", ":", "a/", "a:", "a`", "a{", "abcdefghi", "a12345678",
              "abcdefghijklmnop")
+
+
+def line(deeds, deed, many, ends=None, loops=(), more=None):
+    """A machine of so many rooms in a line, s0 s1 .., each led on by the deed; loops are pairs of a room and a deed."""
+    rooms = ["s" + str(k) for k in range(many)]
+    doors = [(room, deed, far) for room, far in zip(rooms, rooms[1:])]
+    return Machine(deeds, "s0", rooms if ends is None else ends, doors + [(r, d, r) for r, d in loops], more)
+
+
+def ring(deeds, deed, many):
+    """A machine of so many rooms, all of them ends, led round by the deed."""
+    rooms = ["s" + str(k) for k in range(many)]
+    return Machine(deeds, "s0", rooms, [(room, deed, rooms[(k + 1) % many]) for k, room in enumerate(rooms)])
+
+
+def rows_of(names, longest):
+    """All rows of deeds, the shorter ones first, those of one length rising."""
+    for length in range(longest + 1):
+        yield from (list(row) for row in itertools.product(sorted(names), repeat=length))
+
+
+def some_machine(deeds, seed, most_rooms=4):
+    """A machine made up of a number: the same one each time."""
+    dice = random.Random(seed)
+    names = ["abcdefgh"[k] for k in range(dice.randint(1, most_rooms))]
+    known = [deed for deed in deeds.names() if dice.random() < 0.6]
+    doors = [(room, deed, dice.choice(names)) for room in names for deed in known if dice.random() < 0.6]
+    ends = [room for room in names if dice.random() < 0.5]
+    return Machine(deeds, dice.choice(names), ends, doors, known)

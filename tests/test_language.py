@@ -28,6 +28,11 @@ WORDS = re.compile(r"\b(type|typing|typing_extensions|enum|Enum|IntEnum|StrEnum|
 VALUES_NOT_USED = """items keys values pop update append clear extend insert remove reverse setdefault sort args encode
 format""".split()
 VALUES_FREE = "count index title find get join lower upper split strip copy add".split()
+CALLED_ONLY = """len range enumerate zip min max sum abs sorted reversed int str bool list tuple dict set frozenset
+isinstance ord repr any all divmod""".split()
+WALKED = "zip enumerate reversed range .items .keys .values".split()
+TAKES_WALKED = "list tuple dict sorted sum any all enumerate zip min max".split()
+CHANGES = "append clear extend insert pop remove reverse setdefault update add discard".split()
 OWN_NAMES = dir(builtins)
 PYTHONS_OWN = {name for kind in (str, int, list, dict, set, bytes, tuple) for name in dir(kind)}
 
@@ -134,6 +139,104 @@ def value_fault(node):
     return None
 
 
+def parents_of(tree):
+    """The node in which each node stands."""
+    return {inner: node for node in ast.walk(tree) for inner in ast.iter_child_nodes(node)}
+
+
+def called(node):
+    """The name by which a node calls something, a method's with a dot ahead; None where it calls nothing."""
+    if isinstance(node, ast.Call) and isinstance(node.func, ast.Name):
+        return node.func.id
+    return "." + node.func.attr if isinstance(node, ast.Call) and isinstance(node.func, ast.Attribute) else None
+
+
+def own_value_fault(node, parent, grand):
+    """What a name of Python's own does against L22: it is called, stands as a key, or by isinstance."""
+    if not isinstance(node, ast.Name) or node.id not in CALLED_ONLY:
+        return None
+    stands_as_key = isinstance(parent, ast.keyword) and parent.arg == "key"
+    by_isinstance = "isinstance" in (called(parent), called(grand))
+    good = isinstance(parent, ast.Call) and parent.func == node or stands_as_key or by_isinstance
+    return None if good else f"L22 {node.id}"
+
+
+def keyword_fault(node):
+    """What a call's keywords do against L22."""
+    allowed = {"sorted": ("key", "reverse"), "min": ("key", "default"), "max": ("key", "default"), "sum": ("start",),
+               "enumerate": ("start",), "zip": ("strict",)}
+    name = called(node)
+    own = name is not None and (name in BUILTINS or name[1:] in METHODS)
+    wrong = own and [word for word in node.keywords if word.arg not in allowed.get(name, ())]
+    return "L22 keyword" if wrong else None
+
+
+def walked_fault(node, parent):
+    """What is not walked on the spot against L23."""
+    if called(node) not in WALKED:
+        return None
+    behind_in = isinstance(parent, (ast.For, ast.comprehension)) and parent.iter == node
+    first = called(parent) in TAKES_WALKED and parent.args[:1] == [node]
+    inner = called(parent) in ("zip", ".join") and node in parent.args
+    return None if behind_in or first or inner else f"L23 {called(node)}"
+
+
+def changed_fault(node):
+    """What a loop walks and changes, by its text, against L23."""
+    if not isinstance(node, ast.For):
+        return None
+    texts = [ast.unparse(inner) for inner in ast.walk(node.iter) if isinstance(inner, (ast.Name, ast.Attribute))]
+    for inner in [n for part in node.body for n in ast.walk(part)]:
+        stored = isinstance(inner, ast.Subscript) and isinstance(inner.ctx, ast.Store)
+        changes = (called(inner) or "")[1:] in CHANGES
+        place = inner.value if stored else inner.func.value if changes else None
+        if place is not None and ast.unparse(place) in texts:
+            return "L23 what a loop walks is changed"
+    return None
+
+
+def set_fault(node, parent):
+    """What a set does against L13 and L24."""
+    if not isinstance(node, ast.Set) and called(node) not in ("set", "frozenset"):
+        return None
+    if isinstance(parent, (ast.Compare, ast.BinOp)):
+        return None
+    return None if called(parent) in ("sorted", "len") and not parent.keywords else "L24 set"
+
+
+def note_fault(node):
+    """What is told of a value's kind against L21."""
+    told = isinstance(node, ast.arg) and node.annotation or isinstance(node, ast.FunctionDef) and node.returns
+    return "L21 annotation" if told else None
+
+
+def handed_fault(node, parent, own_methods):
+    """What is a method and isn't called where it stands, against L25."""
+    if not isinstance(node, ast.Attribute) or node.attr not in METHODS + own_methods:
+        return None
+    as_key = isinstance(parent, ast.keyword) and parent.arg == "key"
+    return None if as_key or isinstance(parent, ast.Call) and parent.func == node else "L25 a method is handed on"
+
+
+def lambda_faults(tree):
+    """Two lambdas with the same parameters on one row, against L13."""
+    rows = [(node.lineno, ast.unparse(node.args)) for node in ast.walk(tree) if isinstance(node, ast.Lambda)]
+    return [f"L13 row {row[0]}" for row in sorted(set(rows)) if rows.count(row) > 1]
+
+
+def place_faults(tree, own_methods):
+    """What nodes do against the rules where they stand."""
+    parents = parents_of(tree)
+    faults = lambda_faults(tree)
+    for node in ast.walk(tree):
+        parent = parents.get(node)
+        found = [own_value_fault(node, parent, parents.get(parent)), keyword_fault(node), walked_fault(node, parent),
+                 changed_fault(node), set_fault(node, parent), note_fault(node),
+                 handed_fault(node, parent, own_methods)]
+        faults.extend(f"row {getattr(node, 'lineno', 0)}: {fault}" for fault in found if fault)
+    return faults
+
+
 def node_faults(tree, own_methods):
     """What the nodes of a file do against the rules, each by itself."""
     faults = []
@@ -184,7 +287,7 @@ def package_faults(texts):
     faults.extend(f"L26 {name}" for name in methods
                   if name in PYTHONS_OWN and name not in METHODS + ["add", "discard"])
     for name, tree in trees.items():
-        found = text_faults(texts[name]) + top_faults(tree) + node_faults(tree, methods)
+        found = text_faults(texts[name]) + top_faults(tree) + node_faults(tree, methods) + place_faults(tree, methods)
         faults.extend(f"{name}: {fault}" for fault in found)
     return faults + import_faults(trees)
 
@@ -216,6 +319,7 @@ AGAINST = (
     ("L7", "def f(a):\n    return [c for b in a for c in b]\n"), ("L8", "def f(a):\n    return print(a)\n"),
     ("L8", "def f(a):\n    min = a\n    return min\n"), ("L10", "def f():\n" + "    pass\n" * 40),
     ("L10", "x = " + "1" * 120 + "\n"), ("L12", "def f(a):\n    _b = a\n    return a\n"), ("L14", "# \tword\n"),
+    ("L13", "def f(a):\n    return [lambda b: b, lambda b: a]\n"),
     ("L15", "def f(sum):\n    return sum\n"), ("L15", "def f():\n    return 1\n\n\ndef f():\n    return 2\n"),
     ("L15", "X = 1\n\n\ndef f(X):\n    return X\n"), ("L15", "X = 1\n\n\ndef f():\n    X = 2\n    return X\n"),
     ("L16", "from roomward.self import f\n\n\ndef g():\n    f()\n"),
@@ -223,7 +327,15 @@ AGAINST = (
     ("L18", "class A:\n    def b(self):\n        return 1\n\n    def c(self):\n        self.b = 2\n"),
     ("L18", "class A:\n    def b(self):\n        return 1\n\n    def b(self):\n        return 2\n"),
     ("L19", "def f(a):\n    try:\n        return a[0]\n    except TypeError:\n        return None\n"),
-    ("L20", "def f(a, b):\n    return a is b\n"), ("L25", "def f(a):\n    a.sort()\n"),
+    ("L20", "def f(a, b):\n    return a is b\n"), ("L21", "def f(a: int):\n    return a\n"),
+    ("L21", "def f(a) -> int:\n    return a\n"), ("L22", "def f(a):\n    return a(len)\n"),
+    ("L22", "def f(a):\n    return sorted(a, start=1)\n"), ("L22", "def f(a):\n    return a.split(sep=1)\n"),
+    ("L23", "def f(a):\n    b = zip(a, a)\n    return b\n"), ("L23", "def f(a):\n    return a.items()\n"),
+    ("L23", "def f(a):\n    for b in a:\n        a.append(b)\n"),
+    ("L23", "def f(a):\n    for b, c in a.items():\n        a[b] = c\n"),
+    ("L24", "def f(a):\n    b = set(a)\n    return b\n"),
+    ("L24", "def f(a):\n    for b in set(a):\n        return b\n"),
+    ("L25", "def f(a):\n    return f(a.append)\n"), ("L25", "def f(a):\n    a.sort()\n"),
     ("L26", "class A:\n    def __init__(self):\n        self.args = 1\n"),
     ("L26", "class A:\n    def title(self):\n        return 1\n"), ("L27", "def f(a):\n    return 2 ** a\n"),
     ("L27", "x = '" + chr(37) + "'\n"), ("L28", "class A:\n    def __init__(self):\n        return None\n"),

@@ -5,7 +5,7 @@ import inspect
 import pathlib
 import unittest
 
-from roomward import deeds, errors, machines
+from roomward import deeds, errors, houses, machines, rounds, rules, weaving
 
 FOLDER = pathlib.Path(deeds.__file__).resolve().parent
 
@@ -30,6 +30,43 @@ CALLS = (
     (machines.Machine.to, ["self", "room", "deed"], {}),
     (machines.Machine.is_end, ["self", "room"], {}),
     (machines.Machine.behind, ["self", "row"], {}),
+    (weaving.Woven, ["machines"], {}),
+    (weaving.Woven.begin, ["self"], {}),
+    (weaving.Woven.knows, ["self"], {}),
+    (weaving.Woven.at, ["self", "room"], {}),
+    (weaving.Woven.to, ["self", "room", "deed"], {}),
+    (weaving.Woven.is_end, ["self", "room"], {}),
+    (weaving.Woven.rooms, ["self"], {}),
+    (weaving.made_one, ["woven"], {}),
+    (rules.Never, ["deed"], {}),
+    (rules.Most, ["deed", "many"], {}),
+    (rules.Ahead, ["first", "later"], {}),
+    (rules.Turns, ["one", "other"], {}),
+    (rules.Hold, ["deed", "other"], {}),
+    (rules.Answer, ["deed", "other"], {}),
+    (rules.All, ["rules"], {}),
+    (rules.Told, ["machine"], {}),
+    (rules.Never.machine, ["self", "deeds"], {}),
+    (rules.Most.machine, ["self", "deeds"], {}),
+    (rules.Ahead.machine, ["self", "deeds"], {}),
+    (rules.Turns.machine, ["self", "deeds"], {}),
+    (rules.Hold.machine, ["self", "deeds"], {}),
+    (rules.Answer.machine, ["self", "deeds"], {}),
+    (rules.All.machine, ["self", "deeds"], {}),
+    (rules.Told.machine, ["self", "deeds"], {}),
+    (rules.keeps, ["rule", "deeds", "row"], {}),
+    (houses.House, ["deeds", "plant", "rules"], {}),
+    (houses.House.deeds, ["self"], {}),
+    (houses.House.knows, ["self"], {}),
+    (houses.House.begin, ["self"], {}),
+    (houses.House.rooms, ["self"], {}),
+    (houses.House.is_end, ["self", "room"], {}),
+    (houses.House.can, ["self", "room"], {}),
+    (houses.House.breaks, ["self", "room", "deed"], {}),
+    (houses.House.to, ["self", "room", "deed"], {}),
+    (rounds.rounds, ["house"], {}),
+    (rounds.left, ["house"], {}),
+    (rounds.unstopped, ["house", "room"], {}),
 )
 
 
