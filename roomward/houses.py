@@ -71,9 +71,9 @@ class House:
         return plant_far + rule_far
 
     def ways(self, room):
-        """The list of the rooms to which deeds lead on from a room, by rising deeds."""
-        fars = [self.to(room, deed) for deed in self.can(room)]
-        return [far for far in fars if far is not None]
+        """The list of pairs of a deed that leads on from a room and the room behind it, by rising deeds."""
+        pairs = [(deed, self.to(room, deed)) for deed in self.can(room)]
+        return [(deed, far) for deed, far in pairs if far is not None]
 
     def rooms(self):
         """The list of the rooms that are come to by deeds that lead on, in the order of coming."""

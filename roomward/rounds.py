@@ -1,5 +1,6 @@
 """Rounds: rooms of a house are taken off where nobody can stop what is not wanted."""
 
+from roomward.coming import ways_to_ends
 from roomward.errors import NoRoom
 
 
@@ -22,21 +23,6 @@ def first_free(pairs, free, gone):
     return None
 
 
-def ways_to_ends(house, doors, rooms):
-    """Mark those of some rooms from which an end can be come to through these rooms alone."""
-    marks = {}
-    for room in rooms:
-        if house.is_end(room):
-            marks[room] = True
-    before = -1
-    while before != len(marks):
-        before = len(marks)
-        for room in rooms:
-            if any([far in marks for deed, far in doors[room]]):
-                marks[room] = True
-    return marks
-
-
 def taken_now(house, doors, gone):
     """The list of pairs of a room and a reason that a round takes, behind those that are gone."""
     free = house.deeds().free()
@@ -49,7 +35,8 @@ def taken_now(house, doors, gone):
                 staying.append(room)
             else:
                 taken.append((room, ("free", deed)))
-    marks = ways_to_ends(house, doors, staying)
+    ends = [room for room in staying if house.is_end(room)]
+    marks = ways_to_ends(staying, doors, ends)
     taken.extend([(room, ("shut",)) for room in staying if room not in marks])
     return taken
 
@@ -81,12 +68,8 @@ def left(house):
     return [room for room in house.rooms() if room not in reasons]
 
 
-def unstopped(house, room):
-    """The pair of a word and a row: what nobody can stop from a room that was taken off."""
-    reasons = reasons_of(house)
-    # The list, not the dict, is asked: what is handed in may be no key of a dict.
-    if room not in list(reasons):
-        raise NoRoom("no such room was taken off")
+def row_by_reasons(house, reasons, room):
+    """The pair of a word and a row by the reasons' deeds, from a room that has a reason."""
     here = room
     row = []
     while reasons[here] != ("shut",):
@@ -96,3 +79,12 @@ def unstopped(house, room):
             return ("broken", row)
         here = house.to(here, deed)
     return ("shut", row)
+
+
+def unstopped(house, room):
+    """The pair of a word and a row: what nobody can stop from a room that was taken off."""
+    reasons = reasons_of(house)
+    # The list, not the dict, is asked: what is handed in may be no key of a dict.
+    if room not in list(reasons):
+        raise NoRoom("no such room was taken off")
+    return row_by_reasons(house, reasons, room)

@@ -70,8 +70,8 @@ class Woven:
         return all_at_ends(self.machines, room)
 
     def ways(self, room):
-        """The list of the rooms to which the deeds at a room lead, by rising deeds."""
-        return [self.to(room, deed) for deed in self.at(room)]
+        """The list of pairs of a deed that can be done at a room and the room behind it, by rising deeds."""
+        return [(deed, self.to(room, deed)) for deed in self.at(room)]
 
     def rooms(self):
         """The list of the rooms that are come to, in the order of coming."""
@@ -85,7 +85,7 @@ def made_one(woven):
         names[room] = f"r{place}"
     doors = []
     for room in names:
-        for deed in woven.at(room):
-            doors.append((names[room], deed, names[woven.to(room, deed)]))
+        for deed, far in woven.ways(room):
+            doors.append((names[room], deed, names[far]))
     ends = [names[room] for room in names if woven.is_end(room)]
     return Machine(woven.deeds(), names[woven.begin()], ends, doors, woven.knows())

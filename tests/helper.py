@@ -4,8 +4,12 @@ import itertools
 import random
 import unittest
 
-from roomward.errors import WardError
+from roomward.deeds import Deeds
+from roomward.errors import NoWarden, TooMany, WardError
+from roomward.houses import House
 from roomward.machines import Machine
+from roomward.rules import Ahead, Answer, Hold, Most, Never, Turns
+from roomward.warden import Warden
 
 
 class RefusalCase(unittest.TestCase):
@@ -44,6 +48,25 @@ ODD_TEXTS = ("", " ", "1", "1a", "9abc", "A", "aB", "Ab", "ABC", "a b", " a", "a
              "abcdefghijklmnop")
 
 
+# The free ones stand among the others: f0, f1, f2 rising.
+DEEDS = Deeds(["bad", "f0", "f1", "f2", "go", "up"], ["f2", "f0", "f1"])
+
+
+def machine_of(begin, ends, doors, more=None):
+    """A machine of these deeds, its doors told by texts: a room, a deed and a room with blanks between."""
+    return Machine(DEEDS, begin, list(ends), [tuple(door.split()) for door in doors], more)
+
+
+def house_of(begin, ends, doors, rules=()):
+    """A house of one such machine."""
+    return House(DEEDS, [machine_of(begin, ends, doors)], list(rules))
+
+
+def warden_of(begin, ends, doors, rules=()):
+    """The warden of such a house."""
+    return Warden(house_of(begin, ends, doors, rules))
+
+
 def line(deeds, deed, many, ends=None, loops=(), more=None):
     """A machine of so many rooms in a line, s0 s1 .., each led on by the deed; loops are pairs of a room and a deed."""
     rooms = ["s" + str(k) for k in range(many)]
@@ -63,6 +86,15 @@ def rows_of(names, longest):
         yield from (list(row) for row in itertools.product(sorted(names), repeat=length))
 
 
+def let_rows(warden, longest):
+    """All rows of at most so many deeds that a warden lets, the shorter ones first, those of one length rising."""
+    rows = [[]]
+    for row in rows:
+        yield row
+        if len(row) < longest:
+            rows.extend(row + [deed] for deed in warden.lets(warden.behind(row)))
+
+
 def some_machine(deeds, seed, most_rooms=4):
     """A machine made up of a number: the same one each time."""
     dice = random.Random(seed)
@@ -71,3 +103,32 @@ def some_machine(deeds, seed, most_rooms=4):
     doors = [(room, deed, dice.choice(names)) for room in names for deed in known if dice.random() < 0.6]
     ends = [room for room in names if dice.random() < 0.5]
     return Machine(deeds, dice.choice(names), ends, doors, known)
+
+
+def two_rings(tail, one, other, more=()):
+    """A machine of so many rooms in a line, then b, then by f1 a ring and by f2 another one; go leads on in all three.
+
+    So who sees go alone has tail + 1 + lcm(one, other) places, and plays to tail + 3 + 2 * lcm(one, other) pairs.
+    """
+    lined = ["t" + str(k) for k in range(tail)] + ["b"]
+    doors = [near + " go " + far for near, far in zip(lined, lined[1:])] + ["b f1 p0", "b f2 q0"]
+    for name, many in (("p", one), ("q", other)):
+        doors += [f"{name}{k} go {name}{(k + 1) % many}" for k in range(many)]
+    rooms = lined + ["p" + str(k) for k in range(one)] + ["q" + str(k) for k in range(other)]
+    return machine_of(lined[0], rooms, doors + list(more))
+
+
+def some_wardens():
+    """Wardens of houses made up of numbers, the same ones each time; most of them forbid something."""
+    deeds = Deeds(["bad", "f0", "go", "in", "up"], ["f0"])
+    kinds = ([Never("bad")], [Most("f0", 1)], [Hold("go", "up")], [Turns("in", "f0")], [], [Answer("go", "f0")],
+             [Ahead("up", "f0"), Most("go", 2)], [Most("bad", 1), Hold("f0", "up")], [Answer("bad", "in")])
+    for seed in range(400):
+        plant = [some_machine(deeds, 5000 + seed * 7 + k, 7 - 2 * (seed % 2)) for k in range(1 + seed % 2)]
+        try:
+            warden = Warden(House(deeds, plant, kinds[seed % len(kinds)]))
+        except (NoWarden, TooMany):
+            continue
+        rooms = warden.rooms()
+        if len(rooms) > 2 and (seed % 5 == 0 or any(warden.forbids(room) for room in rooms)):
+            yield warden

@@ -5,7 +5,7 @@ import inspect
 import pathlib
 import unittest
 
-from roomward import deeds, errors, houses, machines, rounds, rules, weaving
+from roomward import deeds, errors, houses, least, machines, parts, rounds, rules, sides, warden, weaving
 
 FOLDER = pathlib.Path(deeds.__file__).resolve().parent
 
@@ -67,6 +67,36 @@ CALLS = (
     (rounds.rounds, ["house"], {}),
     (rounds.left, ["house"], {}),
     (rounds.unstopped, ["house", "room"], {}),
+    (warden.Warden, ["house"], {}),
+    (warden.Warden.house, ["self"], {}),
+    (warden.Warden.begin, ["self"], {}),
+    (warden.Warden.rooms, ["self"], {}),
+    (warden.Warden.lets, ["self", "room"], {}),
+    (warden.Warden.forbids, ["self", "room"], {}),
+    (warden.Warden.to, ["self", "room", "deed"], {}),
+    (warden.Warden.why, ["self", "room", "deed"], {}),
+    (warden.Warden.behind, ["self", "row"], {}),
+    (warden.judge_of, ["warden"], {}),
+    (parts.Part, ["warden", "seen"], {}),
+    (parts.Part.seen, ["self"], {}),
+    (parts.Part.begin, ["self"], {}),
+    (parts.Part.behind, ["self", "place", "deed"], {}),
+    (parts.Part.lets, ["self", "place"], {}),
+    (parts.Part.forbids, ["self", "place"], {}),
+    (parts.Part.places, ["self"], {}),
+    (parts.Part.place_of, ["self", "row"], {}),
+    (parts.differs, ["part"], {}),
+    (parts.dead, ["part"], {}),
+    (parts.dead_way, ["part"], {}),
+    (sides.Sides, ["warden", "sights"], {}),
+    (sides.Sides.part, ["self", "k"], {}),
+    (sides.Sides.holders, ["self", "deed"], {}),
+    (sides.Sides.forbids, ["self", "k", "place"], {}),
+    (sides.Sides.lets, ["self", "row"], {}),
+    (sides.lapse, ["sides"], {}),
+    (least.classes, ["warden"], {}),
+    (least.parted, ["warden", "one", "other"], {}),
+    (least.least, ["warden"], {}),
 )
 
 

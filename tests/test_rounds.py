@@ -2,25 +2,18 @@
 
 import unittest
 
-from helper import ODD_TEXTS, ODD_THINGS, RefusalCase, line, ring, some_machine
-from roomward.deeds import Deeds
+from helper import DEEDS, ODD_TEXTS, ODD_THINGS, RefusalCase, house_of, line, ring, some_machine
 from roomward.errors import NoRoom, TooMany
 from roomward.houses import House
 from roomward.machines import Machine
 from roomward.rounds import left, rounds, unstopped
 from roomward.rules import Ahead, All, Answer, Hold, Most, Never, Turns
 
-# The free ones stand among the others: f0, f1, f2 rising.
-DEEDS = Deeds(["bad", "f0", "f1", "f2", "go", "up"], ["f2", "f0", "f1"])
 SHUT = ("shut",)
 
 
 def free(deed):
     return ("free", deed)
-
-
-def house_of(begin, ends, doors, rules=()):
-    return House(DEEDS, [Machine(DEEDS, begin, list(ends), [tuple(door.split()) for door in doors])], list(rules))
 
 
 def alone(told):
