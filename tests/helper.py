@@ -132,3 +132,37 @@ def some_wardens():
         rooms = warden.rooms()
         if len(rooms) > 2 and (seed % 5 == 0 or any(warden.forbids(room) for room in rooms)):
             yield warden
+
+
+# At a go is let and bad forbidden; at b f0 comes and up is let; at c f1 comes and go is forbidden, for f2 behind it.
+PLAY_DOORS = ["a go b", "a bad a", "b f0 c", "b up a", "c f1 a", "c go d", "d f2 d"]
+PLAY_RULES = (Never("f2"), Never("bad"))
+
+
+def play_warden():
+    """The warden of these doors and rules; a alone is an end, and its rooms are those of a, b and c."""
+    return warden_of("a", "ad", PLAY_DOORS, PLAY_RULES)
+
+
+def state_of(play):
+    """All that a play tells."""
+    return (play.room(), play.told(), play.letters(), play.at_end(), play.book())
+
+
+def some_things_done(play, seed, many):
+    """Do so many things with a play, letters, turns, free deeds and what is refused, made up of a number.
+
+    The list of pairs of what was told (a refusal's class, where it was refused) and all that the play tells then.
+    """
+    dice = random.Random(seed)
+    deeds = play.whole.house().deeds().names() + ["nothing"]
+    done = []
+    for turn in range(many):
+        calls = [lambda: play.send(dice.choice(["ann", "bob", "cy", "no name"]), dice.choice(deeds)), play.turn,
+                 lambda: play.came(dice.choice(deeds))]
+        try:
+            told = dice.choices(calls, [5, 3, 4])[0]()
+        except WardError as error:
+            told = type(error)
+        done.append((told, state_of(play)))
+    return done

@@ -5,7 +5,8 @@ import inspect
 import pathlib
 import unittest
 
-from roomward import deeds, errors, houses, least, machines, parts, rounds, rules, sides, warden, weaving
+from roomward import (books, deeds, desks, errors, houses, least, machines, parts, plays, rounds, rules, sides, texts,
+                      warden, weaving)
 
 FOLDER = pathlib.Path(deeds.__file__).resolve().parent
 
@@ -97,6 +98,19 @@ CALLS = (
     (least.classes, ["warden"], {}),
     (least.parted, ["warden", "one", "other"], {}),
     (least.least, ["warden"], {}),
+    (plays.Play, ["warden"], {}),
+    (plays.Play.send, ["self", "asker", "deed"], {}),
+    (plays.Play.turn, ["self"], {}),
+    (plays.Play.came, ["self", "deed"], {}),
+    (plays.Play.room, ["self"], {}),
+    (plays.Play.told, ["self"], {}),
+    (plays.Play.letters, ["self"], {}),
+    (plays.Play.at_end, ["self"], {}),
+    (plays.Play.book, ["self"], {}),
+    (books.replayed, ["warden", "book"], {}),
+    (texts.read, ["text"], {}),
+    (texts.written, ["deeds", "plant", "rules"], {}),
+    (desks.answers_of, ["text", "rows"], {}),
 )
 
 
